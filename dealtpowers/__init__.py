@@ -1,0 +1,1 @@
+"""Dealtpowers: what products of sums say about one another, for all tables."""

@@ -1,0 +1,179 @@
+"""The form of the code: those of the rules of LANGUAGE.md that can be seen by looking at single nodes."""
+
+import ast
+import builtins
+import re
+import unittest
+from pathlib import Path
+
+FOLDER = Path(__file__).resolve().parent.parent / "dealtpowers"
+LIBRARY = {"heapq": {"heappush", "heappop", "heapify", "heapreplace", "heappushpop"},
+           "math": {"gcd", "lcm", "isqrt", "comb", "perm", "factorial"},
+           "itertools": {"product", "combinations", "permutations", "chain", "accumulate", "pairwise", "islice",
+                         "zip_longest"},
+           "collections": {"defaultdict"}}
+BUILTINS = set("""len range enumerate zip min max sum abs sorted reversed int str bool bytes list tuple dict set
+    frozenset isinstance ord repr any all divmod pow getattr hasattr setattr iter next map super property staticmethod
+    classmethod object Exception ValueError TypeError KeyError IndexError LookupError ZeroDivisionError
+    ArithmeticError OverflowError RuntimeError NotImplementedError AttributeError StopIteration NotImplemented
+    """.split())
+METHODS = set("""append clear copy count endswith extend find get index insert isalnum isalpha isdigit islower isspace
+    isupper items join keys ljust lower lstrip partition pop remove replace reverse rfind rjust rpartition rsplit
+    rstrip setdefault split splitlines startswith strip update upper values zfill bit_length title capitalize
+    swapcase casefold center expandtabs removeprefix removesuffix rindex isascii isdecimal isnumeric istitle
+    isidentifier isprintable translate sort add discard format __init__""".split())
+BARRED_NAMES = set("register mro elements open input law version_info with_traceback add_note".split())
+BARRED_WORDS = set("""type typing typing_extensions enum Enum IntEnum StrEnum Flag IntFlag Generic Protocol ABC ABCMeta
+    namedtuple NamedTuple TypedDict TYPE_CHECKING abstractmethod dataclass overload contextmanager""".split())
+STATEMENTS = (ast.Assign, ast.AugAssign, ast.AnnAssign, ast.If, ast.While, ast.For, ast.Return, ast.Break, ast.Continue,
+              ast.Pass, ast.Raise, ast.Assert, ast.Delete, ast.Nonlocal, ast.Match, ast.With, ast.Try, ast.Expr,
+              ast.FunctionDef, ast.ClassDef, ast.ImportFrom)
+INTERFACE = {
+    "errors": ["DealError", "Missing", "InvalidNumber", "UnknownName", "NothingLeft"],
+    "numbers": ["is_number", "floor_root", "ceiling_root", "lowest"],
+    "systems": ["Outcome", "Solution", "Mirror", "solve", "least_cost"],
+}
+
+
+def bound_names(tree):
+    """Each name that a tree binds, with its node."""
+    for node in ast.walk(tree):
+        if isinstance(node, (ast.FunctionDef, ast.ClassDef)):
+            yield node.name, node
+        elif isinstance(node, ast.arg):
+            yield node.arg, node
+        elif isinstance(node, ast.Name) and not isinstance(node.ctx, ast.Load):
+            yield node.id, node
+        elif isinstance(node, ast.ExceptHandler) and node.name:
+            yield node.name, node
+        elif isinstance(node, ast.alias):
+            yield node.asname or node.name, node
+
+
+def docstrings(tree):
+    """The nodes of all docstrings."""
+    for node in ast.walk(tree):
+        if isinstance(node, (ast.Module, ast.ClassDef, ast.FunctionDef)) and node.body:
+            first = node.body[0]
+            if isinstance(first, ast.Expr) and isinstance(first.value, ast.Constant):
+                yield first.value
+
+
+class LanguageTest(unittest.TestCase):
+    @classmethod
+    def setUpClass(cls):
+        cls.texts = {path: path.read_text(encoding="ascii") for path in sorted(FOLDER.rglob("*.py"))}
+        cls.trees = {path: ast.parse(text) for path, text in cls.texts.items()}
+
+    def nodes(self, *kinds):
+        for path, tree in self.trees.items():
+            for node in ast.walk(tree):
+                if isinstance(node, kinds):
+                    yield f"{path.name}:{getattr(node, 'lineno', 0)}", node
+
+    def test_files(self):
+        for path in FOLDER.rglob("*"):
+            if "__pycache__" not in path.parts:
+                self.assertTrue(re.fullmatch(r"[a-z][a-z0-9_]*\.py|__(init|main)__\.py", path.name), path)
+        for path, text in self.texts.items():
+            self.assertTrue(set(text) <= {chr(code) for code in range(32, 127)} | {"\n"}, path)
+            lines = text.split("\n")
+            self.assertLess(len(lines), 401, path)
+            self.assertTrue(all(len(line) <= 120 for line in lines), path)
+            self.assertNotIn("_wall", text)
+
+    def test_module_level(self):
+        for path, tree in self.trees.items():
+            names = []
+            for node in tree.body:
+                self.assertIsInstance(node, (ast.Expr, ast.ImportFrom, ast.FunctionDef, ast.ClassDef, ast.Assign), path)
+                if isinstance(node, ast.Expr):
+                    self.assertIsInstance(node.value, ast.Constant, path)
+                elif isinstance(node, ast.Assign):
+                    names += [target.id for target in node.targets]
+                elif isinstance(node, ast.ImportFrom):
+                    names += [alias.name for alias in node.names]
+                else:
+                    names.append(node.name)
+            self.assertEqual(len(names), len(set(names)), path)
+
+    def test_imports(self):
+        stems = {path.stem: path for path in self.trees}
+        for where, node in self.nodes(ast.Import, ast.ImportFrom):
+            self.assertIsInstance(node, ast.ImportFrom, where)
+            self.assertTrue(node.level == 0 and all(alias.asname is None for alias in node.names), where)
+            names = {alias.name for alias in node.names}
+            if node.module in LIBRARY:
+                self.assertTrue(names <= LIBRARY[node.module], where)
+            else:
+                self.assertTrue(node.module.startswith("dealtpowers."), where)
+                tree = self.trees[stems[node.module.removeprefix("dealtpowers.")]]
+                self.assertTrue(names <= {getattr(item, "name", None) for item in tree.body}, where)
+
+    def test_statements(self):
+        for where, node in self.nodes(ast.stmt):
+            self.assertIsInstance(node, STATEMENTS, where)
+
+    def test_functions(self):
+        for where, node in self.nodes(ast.FunctionDef):
+            self.assertLess(node.end_lineno - node.lineno, 40, where)
+            for decorator in node.decorator_list:
+                name = decorator.attr if isinstance(decorator, ast.Attribute) else decorator.id
+                self.assertIn(name, ("property", "staticmethod", "classmethod", "setter"), where)
+        for where, node in self.nodes(ast.ClassDef):
+            self.assertEqual([node.decorator_list, node.keywords], [[], []], where)
+
+    def test_expressions(self):
+        for where, node in self.nodes(ast.expr):
+            self.assertNotIsInstance(node, (ast.GeneratorExp, ast.Await), where)
+            if isinstance(node, ast.BinOp):
+                self.assertNotIsInstance(node.op, (ast.Div, ast.MatMult), where)
+                if isinstance(node.op, ast.Pow):
+                    self.assertIsInstance(node.right, ast.Constant, where)
+            if isinstance(node, ast.Constant):
+                self.assertNotIsInstance(node.value, (float, complex), where)
+            if isinstance(node, ast.Compare):
+                for op, side in zip(node.ops, node.comparators):
+                    if isinstance(op, (ast.Is, ast.IsNot)):
+                        self.assertTrue(isinstance(side, ast.Constant) and side.value in (None, True, False), where)
+
+    def test_strings(self):
+        for path, tree in self.trees.items():
+            told = {id(node) for node in docstrings(tree)}
+            for node in ast.walk(tree):
+                if isinstance(node, ast.Constant) and isinstance(node.value, str):
+                    self.assertNotIn(chr(37), node.value, path)
+                    if id(node) not in told:
+                        self.assertFalse(BARRED_WORDS & set(re.findall(r"\w+", node.value)), (path, node.lineno))
+
+    def test_names(self):
+        used = set(dir(builtins))
+        for path, tree in self.trees.items():
+            bound = dict(bound_names(tree))
+            inner = {item for node in ast.walk(tree) if isinstance(node, ast.ClassDef) for item in node.body}
+            for name, node in bound.items():
+                self.assertTrue(re.fullmatch(r"_?[A-Za-z][A-Za-z0-9_]*|_|__[a-z]+__", name), (path, name))
+                if node not in inner and not name.startswith("__"):
+                    self.assertNotIn(name, used, path)
+                self.assertNotIn(name, BARRED_NAMES | BARRED_WORDS, path)
+            for node in ast.walk(tree):
+                if isinstance(node, ast.Name) and isinstance(node.ctx, ast.Load) and node.id not in bound:
+                    self.assertIn(node.id, BUILTINS, (path, node.lineno))
+                if isinstance(node, ast.Attribute):
+                    self.assertNotIn(node.attr, BARRED_NAMES | BARRED_WORDS, (path, node.lineno))
+
+    def test_methods(self):
+        own = {node.name for _, node in self.nodes(ast.FunctionDef)}
+        for where, node in self.nodes(ast.Call):
+            if isinstance(node.func, ast.Attribute):
+                self.assertIn(node.func.attr, METHODS | own, where)
+
+    def test_interface(self):
+        trees = {path.stem: tree for path, tree in self.trees.items()}
+        for stem, names in INTERFACE.items():
+            defined = {getattr(node, "name", None) for node in trees[stem].body}
+            self.assertTrue(set(names) <= defined, stem)
+
+
+if __name__ == "__main__":
+    unittest.main()
