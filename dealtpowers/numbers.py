@@ -34,6 +34,11 @@ def power(base, exponent):
     return worth
 
 
+def summed(row, numbers):
+    """The sum of the products of two lists, place by place."""
+    return sum([worth * number for worth, number in zip(row, numbers)])
+
+
 def floor_root(number, degree):
     """The greatest number whose power of this degree is at most the number."""
     _check_root(number, degree)

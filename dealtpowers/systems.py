@@ -3,7 +3,7 @@
 from math import gcd
 
 from dealtpowers.errors import InvalidSystem
-from dealtpowers.numbers import are_numbers, is_number, is_whole, lowest
+from dealtpowers.numbers import are_numbers, is_number, is_whole, lowest, summed
 from dealtpowers.tableau import Tableau
 from dealtpowers.values import copied, is_list
 
@@ -60,7 +60,7 @@ class Solution(Outcome):
             return False
         if self._rows and len(self._numbers) != len(self._rows[0]):
             return False
-        return all([_summed(row, self._numbers) >= bound * self.scale for row, bound in zip(self._rows, self._bounds)])
+        return all([summed(row, self._numbers) >= bound * self.scale for row, bound in zip(self._rows, self._bounds)])
 
     def __bool__(self):
         return True
@@ -92,9 +92,9 @@ class Mirror(Outcome):
         """Whether the numbers show that no point is in the system."""
         if not are_numbers(self._numbers, 0) or len(self._numbers) != len(self._rows):
             return False
-        if _summed(self._bounds, self._numbers) <= 0:
+        if summed(self._bounds, self._numbers) <= 0:
             return False
-        gives = [_summed([row[at] for row in self._rows], self._numbers) for at in range(len(self._rows[0]))]
+        gives = [summed([row[at] for row in self._rows], self._numbers) for at in range(len(self._rows[0]))]
         return all([given <= 0 for given in gives])
 
     def __bool__(self):
@@ -128,7 +128,7 @@ def least_cost(costs, rows, bounds):
     if not tableau.finish():
         return None
     scale, numbers = tableau.point()
-    top = _summed(costs, numbers)
+    top = summed(costs, numbers)
     common = gcd(top, scale)
     return (top // common, scale // common)
 
@@ -143,11 +143,6 @@ def _check_system(rows, bounds):
 
 def _is_row(value):
     return is_list(value) and len(value) > 0 and all([is_whole(item) for item in value])
-
-
-def _summed(row, numbers):
-    """The sum of the products of two lists, place by place."""
-    return sum([worth * number for worth, number in zip(row, numbers)])
 
 
 def _uneven(place):

@@ -13,3 +13,11 @@ def copied(value):
     if isinstance(value, tuple):
         return tuple([copied(item) for item in value])
     return value
+
+
+def added_up(pairs):
+    """The ascending list of the pairs (key, number), with the numbers of equal keys added up."""
+    found = {}
+    for key, number in pairs:
+        found[key] = found.get(key, 0) + number
+    return sorted(found.items())

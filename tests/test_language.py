@@ -32,7 +32,30 @@ INTERFACE = {
     "errors": ["DealError", "Missing", "InvalidNumber", "UnknownName", "NothingLeft"],
     "numbers": ["is_number", "floor_root", "ceiling_root", "lowest"],
     "systems": ["Outcome", "Solution", "Mirror", "solve", "least_cost"],
+    "schemas": ["Schema"],
+    "products": ["Product", "read_product"],
+    "tables": ["Table"],
+    "claims": ["Claim", "read_claim"],
 }
+# For each class its methods, and the parameters of each behind the object itself.
+CLASSES = {
+    "Schema": {"__init__": "columns, facts=()", "facts": "", "__contains__": None, "rays": "", "is_exponent": "value",
+               "fits": "value", "follows": "low, high", "reason": "low, high", "equal_sums": "one, other",
+               "with_facts": "*facts", "fact_text": "fact", "read_fact": "text", "__eq__": None, "__repr__": None},
+    "Product": {"__init__": "width, factors=()", "of": "*exponents, width=1", "factors": "", "power": "exponent",
+                "__contains__": None, "__len__": None, "__bool__": None, "__mul__": None, "to_the": "number",
+                "__pow__": None, "__eq__": None, "text": "columns", "worth": "table", "__repr__": None},
+    "Table": {"__init__": "width, groups", "powers": "width, base, groups", "size": "", "groups": "",
+              "sum_of": "exponent", "__add__": None, "__mul__": None, "to_the": "number", "__pow__": None,
+              "raised": "number", "keeps": "schema", "__eq__": None, "__repr__": None},
+    "Claim": {"__init__": "schema, low, high", "__call__": "table", "sides": "table", "__mul__": None,
+              "to_the": "number", "__pow__": None, "turned": "", "times": "product", "moved": "schema, images",
+              "text": "", "__eq__": None, "__repr__": None},
+}
+OPERATORS = set("""__eq__ __repr__ __str__ __len__ __bool__ __contains__ __add__ __sub__ __mul__ __pow__
+    __lt__ __le__ __gt__ __ge__ __ne__""".split())
+DOUBLE = OPERATORS | {"__init__", "__call__", "__enter__", "__exit__", "__iter__", "__getitem__", "__setitem__"}
+MODIFY = set("append extend insert pop remove clear reverse sort update setdefault add discard".split())
 
 
 def bound_names(tree):
@@ -48,6 +71,44 @@ def bound_names(tree):
             yield node.name, node
         elif isinstance(node, ast.alias):
             yield node.asname or node.name, node
+
+
+def called_names(node):
+    """The names of what a tree calls, by name or as a method, and the names of the attributes that it reads."""
+    for item in ast.walk(node):
+        if isinstance(item, ast.Call) and isinstance(item.func, ast.Name):
+            yield item.func.id
+        elif isinstance(item, ast.Attribute) and isinstance(item.ctx, ast.Load):
+            yield item.attr
+
+
+def is_fresh(node):
+    """Whether an expression surely makes a new list or dict."""
+    return (isinstance(node, (ast.List, ast.Dict, ast.ListComp, ast.DictComp))
+            or isinstance(node, ast.Call) and getattr(node.func, "id", "") in ("list", "dict", "sorted"))
+
+
+def changes_of(function):
+    """What a function changes that it did not create: the nodes of these places, but what __init__ gives its self."""
+    given = {}
+    for node in ast.walk(function):
+        if isinstance(node, ast.Assign):
+            for target in node.targets:
+                if isinstance(target, ast.Name):
+                    given.setdefault(target.id, []).append(node.value)
+    own = {name for name, values in given.items() if all(is_fresh(value) for value in values)}
+    for node in ast.walk(function):
+        if isinstance(node, ast.Attribute) and not isinstance(node.ctx, ast.Load):
+            if function.name != "__init__" or node.value.id != "self":
+                yield node
+        elif isinstance(node, ast.Subscript) and not isinstance(node.ctx, ast.Load):
+            if getattr(node.value, "id", "") not in own:
+                yield node
+        elif isinstance(node, ast.Call) and getattr(node.func, "attr", "") in MODIFY:
+            if getattr(node.func.value, "id", "") not in own:
+                yield node
+        elif isinstance(node, (ast.AugAssign, ast.Yield, ast.YieldFrom)):
+            yield node
 
 
 def docstrings(tree):
@@ -108,7 +169,9 @@ class LanguageTest(unittest.TestCase):
             else:
                 self.assertTrue(node.module.startswith("dealtpowers."), where)
                 tree = self.trees[stems[node.module.removeprefix("dealtpowers.")]]
-                self.assertTrue(names <= {getattr(item, "name", None) for item in tree.body}, where)
+                defined = {getattr(item, "name", None) for item in tree.body}
+                defined |= {target.id for item in tree.body if isinstance(item, ast.Assign) for target in item.targets}
+                self.assertTrue(names <= defined, where)
 
     def test_statements(self):
         for where, node in self.nodes(ast.stmt):
@@ -147,7 +210,8 @@ class LanguageTest(unittest.TestCase):
                         self.assertFalse(BARRED_WORDS & set(re.findall(r"\w+", node.value)), (path, node.lineno))
 
     def test_names(self):
-        used = set(dir(builtins))
+        # A test that runs examples leaves their last result in the builtins under the name _.
+        used = set(dir(builtins)) - {"_"}
         for path, tree in self.trees.items():
             bound = dict(bound_names(tree))
             inner = {item for node in ast.walk(tree) if isinstance(node, ast.ClassDef) for item in node.body}
@@ -167,6 +231,59 @@ class LanguageTest(unittest.TestCase):
         for where, node in self.nodes(ast.Call):
             if isinstance(node.func, ast.Attribute):
                 self.assertIn(node.func.attr, METHODS | own, where)
+
+    def functions(self):
+        """The functions of the package by name; a class stands for its __init__."""
+        found = {}
+        for _, node in self.nodes(ast.FunctionDef, ast.ClassDef):
+            if isinstance(node, ast.FunctionDef):
+                found.setdefault(node.name, []).append(node)
+            else:
+                inner = [item for item in node.body if getattr(item, "name", "") == "__init__"]
+                found.setdefault(node.name, []).extend(inner)
+        return found
+
+    def test_operators_and_properties_change_nothing(self):
+        functions = self.functions()
+        names = list(OPERATORS | {node.name for _, node in self.nodes(ast.FunctionDef)
+                                  if any(getattr(item, "id", "") == "property" for item in node.decorator_list)})
+        seen = set(names)
+        while names:
+            for function in functions.get(names.pop(), []):
+                self.assertEqual([ast.dump(node) for node in changes_of(function)], [], function.name)
+                fresh = {name for name in called_names(function) if name in functions} - seen
+                seen |= fresh
+                names += fresh
+        self.assertTrue({"Product", "Table", "Claim", "to_the", "added_up", "monomial"} <= seen)
+        self.assertFalse({"solve", "Tableau"} & seen)
+
+    def test_double_underscores(self):
+        for where, node in self.nodes(ast.FunctionDef):
+            if node.name.startswith("__"):
+                self.assertIn(node.name, DOUBLE, where)
+
+    def test_names_of_methods_and_attributes(self):
+        methods = {item.name for _, node in self.nodes(ast.ClassDef) for item in node.body
+                   if isinstance(item, ast.FunctionDef)}
+        stored = {node.attr for _, node in self.nodes(ast.Attribute) if not isinstance(node.ctx, ast.Load)}
+        values = {target.id for _, node in self.nodes(ast.ClassDef) for item in node.body
+                  if isinstance(item, ast.Assign) for target in item.targets}
+        self.assertFalse(methods & stored | methods & values | stored & values)
+        for where, node in self.nodes(ast.Attribute):
+            if node.attr.startswith("_") and not node.attr.startswith("__"):
+                self.assertIn(node.attr, methods | stored, where)
+
+    def test_methods_of_the_interface(self):
+        seen = set()
+        for where, node in self.nodes(ast.ClassDef):
+            inner = {item.name: item for item in node.body if isinstance(item, ast.FunctionDef)}
+            for name, parameters in CLASSES.get(node.name, {}).items():
+                self.assertIn(name, inner, node.name)
+                told = ast.unparse(inner[name].args).removeprefix("self").removeprefix(", ")
+                if parameters is not None:
+                    self.assertEqual(told, parameters, (node.name, name))
+                seen.add(node.name)
+        self.assertEqual(seen, set(CLASSES))
 
     def test_interface(self):
         trees = {path.stem: tree for path, tree in self.trees.items()}

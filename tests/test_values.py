@@ -2,7 +2,7 @@
 
 import unittest
 
-from dealtpowers.values import copied, is_list
+from dealtpowers.values import added_up, copied, is_list
 
 
 class ValuesTest(unittest.TestCase):
@@ -25,6 +25,11 @@ class ValuesTest(unittest.TestCase):
         value[2][1][1].append(6)
         value.append(6)
         self.assertEqual(held, [1, [2], ([3], (4, [5]))])
+
+    def test_added_up(self):
+        pairs = [((2,), 3), ((1,), 1), ((2,), 4)]
+        self.assertEqual(added_up(pairs), [((1,), 1), ((2,), 7)])
+        self.assertEqual([pairs, added_up([])], [[((2,), 3), ((1,), 1), ((2,), 4)], []])
 
 
 if __name__ == "__main__":
