@@ -14,13 +14,13 @@ SHORT = 2000000
 def is_at_most(low, high):
     """Whether a product is at most another one; both are lists of pairs (number, power), numbers from 1 on."""
     parts = _quotient(low, high)
-    steps = max([abs(times).bit_length() for _, times in parts], default=0) + MORE_STEPS
+    steps = steps_for(parts)
     least, most = _span(parts, steps)
     if least >= 0 or most < 0:
         return least >= 0
     if sum([number.bit_length() * abs(times) for number, times in parts]) <= SHORT:
         return _worth([(number, -times) for number, times in parts]) <= _worth(parts)
-    if _is_one(parts):
+    if is_one(parts):
         return True
     # What is not 1 has a logarithm other than 0, and more steps show its sign in the end.
     while least < 0 <= most:
@@ -29,18 +29,28 @@ def is_at_most(low, high):
     return least >= 0
 
 
+def steps_for(parts):
+    """With so many steps products are told apart unless they are nearly equal."""
+    return max([abs(times).bit_length() for _, times in parts], default=0) + MORE_STEPS
+
+
 def _quotient(low, high):
     """The product high / low, or a root of it: pairs of a number above 1 and a power, below 0 for those of low."""
-    found = {}
-    for number, times in high:
-        found[number] = found.get(number, 0) + times
-    for number, times in low:
-        found[number] = found.get(number, 0) - times
-    parts = [(number, times) for number, times in found.items() if number > 1 and times != 0]
+    parts = [(number, times) for number, times in divided(low, high) if number != 1]
     common = 0
     for _, times in parts:
         common = gcd(common, times)
     return [(number, times // common) for number, times in parts]
+
+
+def divided(low, high):
+    """The pairs of high, and those of low with the powers below 0; equal ones are added up, without powers of 0."""
+    found = {}
+    for key, times in high:
+        found[key] = found.get(key, 0) + times
+    for key, times in low:
+        found[key] = found.get(key, 0) - times
+    return [(key, times) for key, times in found.items() if times != 0]
 
 
 def _worth(parts):
@@ -50,11 +60,18 @@ def _worth(parts):
 
 
 def _span(parts, steps):
-    """A pair of numbers: the logarithm of the product, to the base 2 and times 2 to the power steps, lies between."""
+    return span_between([(number, number, times) for number, times in parts], steps)
+
+
+def span_between(parts, steps):
+    """A pair of numbers: the logarithm of a product, to the base 2 and times 2 to the power steps, lies between.
+
+    A part (down, up, times) is the power of a number that lies between down and up; down is from 1 on.
+    """
     least = 0
     most = 0
-    for number, times in parts:
-        below, above = _logarithm(number, steps)
+    for down, up, times in parts:
+        below, above = _logarithm(down, up, steps)
         if times < 0:
             below, above = above, below
         least = least + times * below
@@ -62,17 +79,17 @@ def _span(parts, steps):
     return (least, most)
 
 
-def _logarithm(number, steps):
-    """A pair of numbers: the logarithm of a number, to the base 2 and times 2 to the power steps, lies between."""
+def _logarithm(down, up, steps):
+    """A pair of numbers: the logarithms of all numbers from down to up, times 2 to the power steps, lie between."""
     # The bits of a number tell its logarithm, and each squaring doubles this. Of the squares only the first bits
     # are kept, once rounded down and once rounded up, so that the true square stays between them.
     bits = steps + SPARE_BITS
-    down, low_shift = _cut_down(number, 0, bits)
-    above, high_shift = _cut_up(number, 0, bits)
+    down, low_shift = _cut_down(down, 0, bits)
+    up, high_shift = _cut_up(up, 0, bits)
     for _ in range(steps):
         down, low_shift = _cut_down(down * down, 2 * low_shift, bits)
-        above, high_shift = _cut_up(above * above, 2 * high_shift, bits)
-    return (low_shift + down.bit_length() - 1, high_shift + above.bit_length())
+        up, high_shift = _cut_up(up * up, 2 * high_shift, bits)
+    return (low_shift + down.bit_length() - 1, high_shift + up.bit_length())
 
 
 def _cut_down(number, shift, bits):
@@ -85,7 +102,7 @@ def _cut_up(number, shift, bits):
     return (-(-number >> more), shift + more)
 
 
-def _is_one(parts):
+def is_one(parts):
     """Whether a product is 1; its parts are pairs of a number above 1 and a power other than 0."""
     # Two numbers with a common divisor are split by it, until no two have one. Then no power can make up for another.
     waiting = list(parts)

@@ -44,3 +44,8 @@ def monomial(row, exponent):
     for number, times in zip(row, exponent):
         worth = worth * power(number, times)
     return worth
+
+
+def slope_of(low, high):
+    """The difference high - low of two exponents, column by column."""
+    return tuple([more - less for less, more in zip(low, high)])

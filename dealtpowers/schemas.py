@@ -1,10 +1,10 @@
 """Schemas: columns, and the facts that bind their rows."""
 
+from dealtpowers.covers import covers_of
 from dealtpowers.errors import InvalidColumns, InvalidExponent, InvalidFact, InvalidText, TooMany
-from dealtpowers.exponents import is_columns, is_direction_of, is_exponent_of, is_row_of, monomial
+from dealtpowers.exponents import is_columns, is_direction_of, is_exponent_of, is_row_of, monomial, slope_of
 from dealtpowers.numbers import summed
 from dealtpowers.rays import rays_of
-from dealtpowers.systems import solve
 from dealtpowers.texts import fact_text_of, read_fact_of
 from dealtpowers.values import is_list
 
@@ -23,7 +23,7 @@ class Schema:
         self.columns = columns
         self.width = len(columns)
         self._facts = list(facts)
-        self._slopes = [_slope(low, high) for low, high in facts]
+        self._slopes = [slope_of(low, high) for low, high in facts]
         self._rays = rays_of(self.width, self._slopes)
 
     def facts(self):
@@ -58,11 +58,8 @@ class Schema:
         for ray in self._rays:
             if summed(ray, low) > summed(ray, high):
                 return (False, 0, ray)
-        if not self._facts:
-            return (True, 1, ())
-        rows = [[-slope[at] for slope in self._slopes] for at in range(self.width)]
-        found = solve(rows, [-part for part in _slope(low, high)])
-        return (True, found.scale, tuple(found.numbers()))
+        scale, covers = covers_of(self._slopes, slope_of(low, high))
+        return (True, scale, covers)
 
     def equal_sums(self, one, other):
         """Whether the sums of two exponents are equal in all tables."""
@@ -107,8 +104,3 @@ def _check_facts(facts, width):
 
 def _is_fact(value, width):
     return isinstance(value, tuple) and len(value) == 2 and all([is_exponent_of(part, width) for part in value])
-
-
-def _slope(low, high):
-    """The difference high - low of two exponents, column by column."""
-    return tuple([more - less for less, more in zip(low, high)])

@@ -4,7 +4,7 @@ from math import gcd
 
 from dealtpowers.errors import InvalidSystem
 from dealtpowers.numbers import are_numbers, is_number, is_whole, lowest, summed
-from dealtpowers.tableau import Tableau
+from dealtpowers.tableau import Tableau, uneven
 from dealtpowers.values import copied, is_list
 
 
@@ -109,7 +109,7 @@ def solve(rows, bounds):
     _check_system(rows, bounds)
     if not rows:
         return Solution(rows, bounds, 1, [])
-    tableau = Tableau(rows, bounds, [(_uneven(at),) for at in range(len(rows[0]))])
+    tableau = Tableau(rows, bounds, [(uneven(at),) for at in range(len(rows[0]))])
     if tableau.finish():
         scale, numbers = tableau.point()
         scale, *numbers = lowest([scale] + numbers)
@@ -124,7 +124,7 @@ def least_cost(costs, rows, bounds):
         raise InvalidSystem(-1)
     if not rows:
         return (0, 1)
-    tableau = Tableau(rows, bounds, [(cost, _uneven(at)) for at, cost in enumerate(costs)])
+    tableau = Tableau(rows, bounds, [(cost, uneven(at)) for at, cost in enumerate(costs)])
     if not tableau.finish():
         return None
     scale, numbers = tableau.point()
@@ -143,8 +143,3 @@ def _check_system(rows, bounds):
 
 def _is_row(value):
     return is_list(value) and len(value) > 0 and all([is_whole(item) for item in value])
-
-
-def _uneven(place):
-    # Even costs would meet often, and where costs meet, many steps gain nothing.
-    return 1000 + place * place * 37 % 1009

@@ -4,6 +4,9 @@ import copy
 import unittest
 
 from dealtpowers.claims import Claim, read_claim
+from dealtpowers.corners import base, combined, lower_bounds, upper_bounds
+from dealtpowers.judging import greatest_power, is_true
+from dealtpowers.keeping import Keeper, first_broken, stretch
 from dealtpowers.products import Product, read_product
 from dealtpowers.schemas import Schema
 from dealtpowers.tables import Table
@@ -42,6 +45,15 @@ CALLS = [
     (CLAIM.times, ["product"], [HIGH]),
     (CLAIM.moved, ["schema", "images"], [Schema("abc"), [(1, 0, 0), (1, 1, 0)]]),
     (read_claim, ["schema", "text"], [SCHEMA, "S[y] <= S[x]"]),
+    (is_true, ["claim"], [CLAIM]),
+    (greatest_power, ["claim"], [CLAIM]),
+    (upper_bounds, ["schema", "sums", "goal"], [SCHEMA, [(2, 0), (0, 1)], (1, 1)]),
+    (lower_bounds, ["schema", "sums", "goal"], [SCHEMA, [(2, 0), (0, 1)], (1, 1)]),
+    (base, ["schema", "sums"], [SCHEMA, [(2, 0), (0, 1)]]),
+    (combined, ["claim", "claims"], [CLAIM, [CLAIM, CLAIM.turned()]]),
+    (stretch, ["schema", "known", "goal"], [SCHEMA, [((2, 0), 5), ((0, 2), 9)], (1, 1)]),
+    (first_broken, ["schema", "known"], [SCHEMA, [((2, 0), 5), ((0, 2), 4)]]),
+    (Keeper, ["schema", "sums"], [SCHEMA, [(2, 0), (0, 1)]]),
 ]
 
 
@@ -62,8 +74,10 @@ class ArgumentsTest(unittest.TestCase):
 
     def test_lists_may_be_tuples(self):
         for call, names, arguments in CALLS:
-            if names[-1] in ("facts", "factors", "groups", "images"):
-                self.assertEqual(call(*arguments[:-1], tuple(arguments[-1])), call(*arguments))
+            for at, name in enumerate(names):
+                if name in ("facts", "factors", "groups", "images", "sums", "known", "claims"):
+                    others = [*arguments[:at], tuple(arguments[at]), *arguments[at + 1:]]
+                    self.assertEqual(call(*others), call(*arguments))
 
     def test_equal_calls_return_equal_results(self):
         for call, _, arguments in CALLS:

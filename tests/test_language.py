@@ -36,7 +36,13 @@ INTERFACE = {
     "products": ["Product", "read_product"],
     "tables": ["Table"],
     "claims": ["Claim", "read_claim"],
+    "papers": ["Verdict", "Dealt", "Failing"],
+    "judging": ["judge", "is_true", "greatest_power"],
+    "corners": ["corners", "upper_bounds", "lower_bounds", "base", "combined"],
+    "keeping": ["stretch", "first_broken", "Keeper"],
 }
+VERDICT = {"claims": "", "premises": "", "small_sums": "", "great_sums": "", "told": "", "holds": "", "__bool__": None,
+           "__repr__": None}
 # For each class its methods, and the parameters of each behind the object itself.
 CLASSES = {
     "Schema": {"__init__": "columns, facts=()", "facts": "", "__contains__": None, "rays": "", "is_exponent": "value",
@@ -51,6 +57,21 @@ CLASSES = {
     "Claim": {"__init__": "schema, low, high", "__call__": "table", "sides": "table", "__mul__": None,
               "to_the": "number", "__pow__": None, "turned": "", "times": "product", "moved": "schema, images",
               "text": "", "__eq__": None, "__repr__": None},
+    "Verdict": {"__init__": "claims, premises=()", **VERDICT},
+    "Dealt": {"__init__": "claims, premises, weights, uses, lots", **VERDICT, "weights": "", "uses": "", "lots": ""},
+    "Failing": {"__init__": "claims, premises, base, groups", **VERDICT, "groups": "", "table": ""},
+    "Keeper": {"__init__": "schema, sums", "sums": "", "busy": "", "apply": "*deeds", "put": "row, *, count=1",
+               "strike": "row, *, count=1", "undo": "", "redo": "", "history": "", "known": "", "stretch": "goal",
+               "twin": "", "__len__": None, "__bool__": None, "__eq__": None, "__repr__": None},
+}
+# For each function of the interface its parameters.
+FUNCTIONS = {
+    "is_number": "value, least", "floor_root": "number, degree", "ceiling_root": "number, degree", "lowest": "numbers",
+    "solve": "rows, bounds", "least_cost": "costs, rows, bounds", "read_product": "columns, text",
+    "read_claim": "schema, text", "judge": "*claims, premises=()", "is_true": "claim", "greatest_power": "claim",
+    "corners": "schema, sums, goal", "upper_bounds": "schema, sums, goal", "lower_bounds": "schema, sums, goal",
+    "base": "schema, sums", "combined": "claim, claims", "stretch": "schema, known, goal",
+    "first_broken": "schema, known",
 }
 OPERATORS = set("""__eq__ __repr__ __str__ __len__ __bool__ __contains__ __add__ __sub__ __mul__ __pow__
     __lt__ __le__ __gt__ __ge__ __ne__""".split())
@@ -284,6 +305,11 @@ class LanguageTest(unittest.TestCase):
                     self.assertEqual(told, parameters, (node.name, name))
                 seen.add(node.name)
         self.assertEqual(seen, set(CLASSES))
+
+    def test_functions_of_the_interface(self):
+        found = {node.name: ast.unparse(node.args) for tree in self.trees.values() for node in tree.body
+                 if isinstance(node, ast.FunctionDef) and node.name in FUNCTIONS}
+        self.assertEqual(found, FUNCTIONS)
 
     def test_interface(self):
         trees = {path.stem: tree for path, tree in self.trees.items()}

@@ -1,0 +1,127 @@
+"""Judges questions: each is dealt, or fails in a table."""
+
+from math import gcd, lcm
+
+from dealtpowers.covers import covers_of
+from dealtpowers.dealing import Dealing, heights_of
+from dealtpowers.errors import Boundless, Tight
+from dealtpowers.exponents import slope_of
+from dealtpowers.failing import failing_paper, small_groups
+from dealtpowers.numbers import lowest, summed
+from dealtpowers.papers import Dealt, Verdict
+
+
+def judge(*claims, premises=()):
+    """A right deal or a right failing table of a question."""
+    question = Verdict(claims, premises)
+    turned = [premise.turned() for premise in question.premises()]
+    if turned:
+        paper = _judged(Verdict(turned))
+        if paper:
+            raise Tight(paper)
+    return _judged(question)
+
+
+def is_true(claim):
+    """Whether a claim is true."""
+    return _is_dealt(_dealing(Verdict([claim])))
+
+
+def greatest_power(claim):
+    """The pair of the greatest power of a claim."""
+    if not claim.low:
+        raise Boundless()
+    low = claim.low.factors()
+    high = claim.high.factors()
+    great = heights_of(claim.schema, [exponent for exponent, _ in high])
+    small = heights_of(claim.schema, [exponent for exponent, _ in low])
+    row = [0] * len(high) + [times for _, times in low]
+    dealing = Dealing(great, small, [row], [times for _, times in high] + [0] * len(low))
+    bottom, numbers = dealing.amounts()
+    common = gcd(numbers[0], bottom)
+    return (numbers[0] // common, bottom // common)
+
+
+def _judged(question):
+    """The paper of a question whose premises are not tight."""
+    dealing = _dealing(question)
+    if _is_dealt(dealing):
+        return _deal(question, dealing)
+    schema = question.claims()[0].schema
+    groups = small_groups(dealing.groups(), [_powers(schema, side) for side in _sides(question)])
+    return failing_paper(question.claims(), question.premises(), [_power_group(schema, group) for group in groups])
+
+
+def _sides(question):
+    """The claims, and behind them the turned premises: in a deal these are like claims."""
+    return question.claims() + [premise.turned() for premise in question.premises()]
+
+
+def _dealing(question):
+    """How the powers of the great sums are dealt out to the small ones, for weights and uses with the sum 1."""
+    great = question.great_sums()
+    small = question.small_sums()
+    rows = []
+    for side in _sides(question):
+        given = [-side.high.power(exponent) for exponent in great]
+        needed = [side.low.power(exponent) for exponent in small]
+        rows.append(given + needed + [1])
+    schema = question.claims()[0].schema
+    costs = [0] * len(great) + [0] * len(small) + [1]
+    return Dealing(heights_of(schema, great), heights_of(schema, small), rows, costs)
+
+
+def _is_dealt(dealing):
+    _, numbers = dealing.amounts()
+    return any(numbers)
+
+
+def _deal(question, dealing):
+    """The deal that was found, in whole numbers."""
+    small = question.small_sums()
+    _, numbers = dealing.amounts()
+    found = [(share, _covers(question, numbers, exponent, share)) for exponent, share in zip(small, dealing.shares())]
+    whole = 1
+    for _, (scale, _) in found:
+        whole = lcm(whole, scale)
+    flat = [number * whole for number in numbers]
+    for share, (scale, covers) in found:
+        flat = flat + [number * whole for number in share] + [cover * (whole // scale) for cover in covers]
+    flat = lowest(flat)
+    weights = flat[:len(question.claims())]
+    uses = flat[len(weights):len(numbers)]
+    facts = len(question.claims()[0].schema.facts())
+    return Dealt(question.claims(), question.premises(), weights, uses,
+                 _lots(flat[len(numbers):], len(small), len(question.great_sums()), facts))
+
+
+def _covers(question, numbers, exponent, shares):
+    """The pair of a scale and covers with which the shares cover what is needed of a small sum."""
+    need = summed(numbers, [side.low.power(exponent) for side in _sides(question)])
+    great = question.great_sums()
+    slopes = [slope_of(low, high) for low, high in question.claims()[0].schema.facts()]
+    rest = [summed(shares, [other[at] for other in great]) - need * part for at, part in enumerate(exponent)]
+    return covers_of(slopes, rest)
+
+
+def _lots(flat, many, great, facts):
+    """So many lots, the numbers of which are all in one list."""
+    found = []
+    for at in range(many):
+        first = at * (great + facts)
+        shares = flat[first:first + great]
+        found.append((tuple(shares), tuple(flat[first + great:first + great + facts])))
+    return found
+
+
+def _powers(schema, side):
+    """The pairs of the height of a sum, and its power in the low of a claim less that in the high."""
+    exponents = sorted(set([exponent for product in (side.low, side.high) for exponent, _ in product.factors()]))
+    powers = [side.low.power(exponent) - side.high.power(exponent) for exponent in exponents]
+    return list(zip(heights_of(schema, exponents), powers))
+
+
+def _power_group(schema, group):
+    """The power group with so much of each ray in its direction."""
+    rays = schema.rays()
+    return (group[0], tuple([summed(group[1:], [ray[at] for ray in rays]) for at in range(schema.width)]))
