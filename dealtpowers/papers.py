@@ -58,7 +58,7 @@ class Dealt(Verdict):
     """A deal: the great sums, each times its share, cover each small one."""
 
     def __init__(self, claims, premises, weights, uses, lots):
-        Verdict.__init__(self, claims, premises)
+        super().__init__(claims, premises)
         self._weights = copied(weights)
         self._uses = copied(uses)
         self._lots = copied(lots)
@@ -150,7 +150,7 @@ class Failing(Verdict):
     """A failing table: all premises hold in it, and no claim does."""
 
     def __init__(self, claims, premises, base, groups):
-        Verdict.__init__(self, claims, premises)
+        super().__init__(claims, premises)
         self.base = copied(base)
         self._groups = copied(groups)
 

@@ -9,7 +9,7 @@ MOST_SUMS = 5
 
 def check_sums(schema, sums):
     """Refuses what is no list of 1 to 5 different exponents."""
-    if not _is_short_list(sums):
+    if not is_short_list(sums):
         raise InvalidSums(-1)
     for at, exponent in enumerate(sums):
         if not schema.is_exponent(exponent) or exponent in sums[:at]:
@@ -18,7 +18,7 @@ def check_sums(schema, sums):
 
 def check_known(schema, known):
     """Refuses what is no list of 1 to 5 known sums, of different exponents."""
-    if not _is_short_list(known):
+    if not is_short_list(known):
         raise InvalidSums(-1)
     for at, pair in enumerate(known):
         if not _is_known(schema, pair) or pair[0] in [exponent for exponent, _ in known[:at]]:
@@ -32,7 +32,8 @@ def check_unequal(schema, sums):
             raise EqualSums(at)
 
 
-def _is_short_list(value):
+def is_short_list(value):
+    """Whether any value is a list of 1 to 5 items."""
     return is_list(value) and 1 <= len(value) <= MOST_SUMS
 
 

@@ -38,7 +38,7 @@ class Solution(Outcome):
     """A point in the system: each of the numbers divided by the scale."""
 
     def __init__(self, rows, bounds, scale, numbers):
-        Outcome.__init__(self, rows, bounds)
+        super().__init__(rows, bounds)
         self.scale = copied(scale)
         self._numbers = copied(numbers)
 
@@ -73,7 +73,7 @@ class Mirror(Outcome):
     """What shows that no point is in the system: the rows, each times its number, ask more than they give."""
 
     def __init__(self, rows, bounds, numbers):
-        Outcome.__init__(self, rows, bounds)
+        super().__init__(rows, bounds)
         self._numbers = copied(numbers)
 
     def rows(self):

@@ -3,10 +3,13 @@
 import copy
 import unittest
 
+from dealtpowers.books import Book
 from dealtpowers.claims import Claim, read_claim
 from dealtpowers.corners import base, combined, lower_bounds, upper_bounds
 from dealtpowers.judging import greatest_power, is_true
 from dealtpowers.keeping import Keeper, first_broken, stretch
+from dealtpowers.needs import difference, least_facts, least_lots
+from dealtpowers.pages import columns_of, read_page, write_page
 from dealtpowers.products import Product, read_product
 from dealtpowers.schemas import Schema
 from dealtpowers.tables import Table
@@ -15,6 +18,8 @@ LOW, HIGH = Product(2, [((1, 1), 2)]), Product(2, [((2, 0), 1), ((0, 2), 1)])
 SCHEMA = Schema("xy", [((1, 0), (0, 1))])
 CLAIM = Claim(SCHEMA, LOW, HIGH)
 TABLE = Table(2, [(3, (1, 2)), (1, (4, 5))])
+BOOK = Book("xy", limit=20)
+BOOK.apply(("fact", "low", "x2 <= y"), ("claim", "main", "S[x]^2 <= S[] S[y]"))
 # The call, its parameters in order, and the arguments.
 CALLS = [
     (Schema, ["columns", "facts"], ["xy", [((2, 0), (0, 1)), ((0, 0), (1, 0))]]),
@@ -54,6 +59,16 @@ CALLS = [
     (stretch, ["schema", "known", "goal"], [SCHEMA, [((2, 0), 5), ((0, 2), 9)], (1, 1)]),
     (first_broken, ["schema", "known"], [SCHEMA, [((2, 0), 5), ((0, 2), 4)]]),
     (Keeper, ["schema", "sums"], [SCHEMA, [(2, 0), (0, 1)]]),
+    (difference, ["one", "other"], [SCHEMA, Schema("xy")]),
+    (least_facts, ["claim"], [CLAIM]),
+    (least_lots, ["schema", "pool", "goals"], [SCHEMA, [(2, 0), (0, 1)], [(1, 1)]]),
+    (write_page, ["book"], [BOOK]),
+    (read_page, ["text"], [write_page(BOOK)]),
+    (columns_of, ["book"], [BOOK]),
+    (Book, ["columns"], ["xy"]),
+    (BOOK.kind_of, ["name"], ["main"]),
+    (BOOK.text_of, ["name"], ["main"]),
+    (BOOK.claim, ["name"], ["main"]),
 ]
 
 
@@ -75,7 +90,7 @@ class ArgumentsTest(unittest.TestCase):
     def test_lists_may_be_tuples(self):
         for call, names, arguments in CALLS:
             for at, name in enumerate(names):
-                if name in ("facts", "factors", "groups", "images", "sums", "known", "claims"):
+                if name in ("facts", "factors", "groups", "images", "sums", "known", "claims", "pool", "goals"):
                     others = [*arguments[:at], tuple(arguments[at]), *arguments[at + 1:]]
                     self.assertEqual(call(*others), call(*arguments))
 
@@ -100,7 +115,7 @@ class ArgumentsTest(unittest.TestCase):
             self.assertEqual([LOW, HIGH, TABLE, CLAIM], before)
 
     def test_what_is_returned_may_change(self):
-        for call in (SCHEMA.facts, SCHEMA.rays, HIGH.factors, TABLE.groups):
+        for call in (SCHEMA.facts, SCHEMA.rays, HIGH.factors, TABLE.groups, BOOK.names):
             before = copy.deepcopy(call())
             call().append(None)
             call()[0] = None

@@ -6,9 +6,11 @@ from pathlib import Path
 
 from dealtpowers.claims import read_claim
 from dealtpowers.corners import base, corners, upper_bounds
+from dealtpowers.desk import Desk
 from dealtpowers.errors import BrokenClaim, Tight
 from dealtpowers.judging import greatest_power, judge
 from dealtpowers.keeping import Keeper, stretch
+from dealtpowers.needs import least_facts, least_lots
 from dealtpowers.papers import Dealt, Failing
 from dealtpowers.products import Product
 from dealtpowers.schemas import Schema
@@ -65,6 +67,17 @@ class ExamplesTest(unittest.TestCase):
         keeper.put((2,), count=4)
         with self.assertRaises(BrokenClaim):
             keeper.strike((3,))
+
+    def test_needs(self):
+        schema = Schema("xy", [((1, 0), (0, 1)), ((2, 0), (0, 1))])
+        self.assertEqual([least_facts(read_claim(schema, "S[x] <= S[y]")),
+                          least_lots(Schema("xy"), [(2, 0), (0, 1), (1, 1)], [(1, 1)])], [[(0,), (1,)], [(2,), (0, 1)]])
+
+    def test_desk(self):
+        desk = Desk()
+        self.assertEqual([desk("fact low x2 <= y"), desk("claim main S[x]^2 <= S[] S[y]"), desk("judge main"),
+                          desk("power main"), desk("drop low"), desk("judge main"), desk("show main"), desk("judge")],
+                         ["done", "done", "dealt", "1/1", "done", "failing", "claim S[x]^2 <= S[] S[y]", "unknown"])
 
     def test_systems(self):
         self.assertEqual([least_cost([1], [[2], [3]], [1, 1]), bool(solve([[1], [-1]], [2, -1])),
