@@ -30,8 +30,7 @@ def small_groups(found, sides):
 def _rounded(groups, size):
     """The groups with rounded numbers, the greatest of which is the size, each group once."""
     top = max([max(group) for group in groups])
-    return [list(group) for group in sorted(set([tuple([(2 * size * number + top) // (2 * top) for number in group])
-                                                 for group in groups]))]
+    return sorted(set([tuple([(2 * size * number + top) // (2 * top) for number in group]) for group in groups]))
 
 
 def _fail(groups, sides):

@@ -5,7 +5,7 @@ power. A tail is a tuple of terms, and the depth of its first one is 0.
 """
 
 from dealtpowers.comparing import SPARE_BITS, divided, is_at_most, is_one, span_between, steps_for
-from dealtpowers.numbers import power, summed
+from dealtpowers.numbers import lowest, power, summed
 from dealtpowers.sparse import multiplied, sign_of
 from dealtpowers.values import added_up
 
@@ -18,8 +18,10 @@ def holds_in_powers(claim, base, groups):
     """Whether a claim holds in the table of the power groups."""
     low = _grown(claim.low, groups)
     high = _grown(claim.high, groups)
-    lead = _lead(high) - _lead(low)
     parts = divided([(tail, times) for _, tail, times in low], [(tail, times) for _, tail, times in high])
+    # A root is taken as far as it is one of whole powers.
+    lead, *powers = lowest([_lead(high) - _lead(low)] + [times for _, times in parts])
+    parts = [(tail, times) for (tail, _), times in zip(parts, powers)]
     deepest = max([tail[-1][0] for tail, _ in parts], default=0)
     if deepest * base.bit_length() <= SHORT:
         return _holds_written(base, lead, parts)

@@ -26,7 +26,7 @@ def difference(one, other):
 def least_facts(claim):
     """The list of the least lots of facts with which alone a claim is true, as tuples of indexes."""
     facts = claim.schema.facts()
-    return _least(len(facts), lambda lot: is_true(_with_facts(claim, [facts[at] for at in lot])))
+    return _least(len(facts), lambda lot: is_true(_with_facts(claim, _picked(facts, lot))))
 
 
 def least_lots(schema, pool, goals):
@@ -37,7 +37,7 @@ def least_lots(schema, pool, goals):
     for at, goal in enumerate(goals):
         if not schema.is_exponent(goal):
             raise InvalidSums(at)
-    return _least(len(pool), lambda lot: _have_corners(schema, [pool[at] for at in lot], goals))
+    return _least(len(pool), lambda lot: _have_corners(schema, _picked(pool, lot), goals))
 
 
 def _direction(one, other):
@@ -47,6 +47,10 @@ def _direction(one, other):
         if not follows:
             return direction
     return None
+
+
+def _picked(items, lot):
+    return [items[at] for at in lot]
 
 
 def _with_facts(claim, facts):

@@ -252,6 +252,23 @@ class CommandsTest(unittest.TestCase):
         self.assertEqual(list(book.walk()), [("fact", "a", "x <= y")])
 
 
+class BusyTest(unittest.TestCase):
+    def test_while_commands_are_done(self):
+        seen = []
+
+        class Watching(str):
+            def split(self, *arguments):
+                seen.append(book.busy)
+                return super().split(*arguments)
+
+        book = Book("xy")
+        book.apply(("fact", "a", Watching("x <= y")), ("claim", "b", Watching("1 <= 1")))
+        self.assertEqual([set(seen), book.busy, len(book)], [{True}, False, 2])
+        for commands in ([("fact", "c", Watching("x <= y")), ("drop", "d")], [("claim", "c", Watching("no"))]):
+            self.assertIsNotNone(raised_by(book.apply, *commands))
+            self.assertEqual([set(seen), book.busy, len(book)], [{True}, False, 2])
+
+
 class LimitTest(unittest.TestCase):
     def test_values(self):
         self.assertEqual([Book("x").limit, Book("x", limit=1).limit, Book("x", limit=20).limit, Book.MOST], [12, 1, 20, 20])

@@ -2,6 +2,7 @@
 
 import random
 import unittest
+from fractions import Fraction
 from itertools import product
 from unittest import mock
 
@@ -68,6 +69,8 @@ class GrowingTest(unittest.TestCase):
         self.assertTrue(holds_in_powers(equal, 2, corners))
         self.assertTrue(holds_in_powers(equal.turned(), 2, corners))
         self.assertTrue(holds_in_powers(claim_of({(3,): BIG}, {(3,): BIG}), 2, [(BIG, (0,)), (0, (1,))]))
+        long = Claim(equal.schema, equal.low ** BIG, equal.high ** BIG)
+        self.assertTrue(holds_in_powers(long, 2, corners) and holds_in_powers(long.turned(), 2, corners))
 
     def test_nearly_equal_sides(self):
         groups = [(BIG, (0,)), (0, (1,))]
@@ -96,6 +99,72 @@ class GrowingTest(unittest.TestCase):
                               (claim_of({(2,): BIG}, {(1,): 2 * BIG}), True), (claim_of({}, {}), True)):
             self.assertEqual(holds_in_powers(claim, 2, [(0, (BIG,))]), wanted)
             self.assertEqual(holds_in_powers(claim, 2, [(0, (BIG,))] * 100), claim != claim_of({(2,): BIG}, {(1,): BIG}))
+
+
+class TailsTest(unittest.TestCase):
+    """What is told of tails that are not written down, held against what they are."""
+
+    def random_tail(self, pick, most):
+        depths = sorted({0, *(pick.randint(1, most) for _ in range(pick.randint(0, 3)))})
+        return tuple((depth, pick.randint(1, 9)) for depth in depths)
+
+    def worth(self, base, tail):
+        return sum(Fraction(count, base ** depth) for depth, count in tail)
+
+    def test_spans(self):
+        pick = random.Random(8)
+        for _ in range(500):
+            base, bits = pick.choice([2, 3, 7, 16, 10 ** 9]), pick.randint(1, 40)
+            tail = self.random_tail(pick, pick.choice([4, 60]))
+            down, up = growing._tail_span(base, tail, bits)
+            self.assertTrue(down <= self.worth(base, tail) * 2 ** bits <= up, (base, tail, bits))
+            self.assertLessEqual(up - down, len(tail) - 1)
+
+    def test_heads(self):
+        tail = ((0, 3), (4, 1), (8, 5), (9, 1), (10 ** 50, 1))
+        self.assertEqual([growing._head(2, tail, bits) for bits in (0, 15, 16, 18)],
+                         [[(0, 3)], [(0, 3), (4, 1)], [(0, 3), (4, 1), (8, 5)], list(tail[:4])])
+
+    def test_products_that_are_nearly_1(self):
+        # The heads make 1 together, and the rest is deep; so its first order mostly tells the sign.
+        pick = random.Random(9)
+        seen = []
+        for _ in range(400):
+            base, bits = pick.choice([2, 2, 3, 10]), 24
+            heads = [((0, pick.randint(1, 4)), (pick.randint(1, 2), pick.randint(1, 3))) for _ in range(pick.randint(1, 2))]
+            parts, lead = [], 0
+            for head in heads:
+                power = pick.randint(1, 4)
+                for sign in (1, -1):
+                    deep = [(depth, pick.randint(1, 5)) for depth in sorted({pick.choice([300, 300, 301, 350, 700])
+                                                                             for _ in range(pick.randint(0, 2))})]
+                    parts.append((head + tuple(deep), sign * power))
+            if pick.random() < .3:
+                parts, lead = parts + [(((0, base ** 2), (400, 1)), 1)], -2
+            whole = Fraction(base) ** lead
+            for tail, power in parts:
+                whole *= self.worth(base, tail) ** power
+            wanted = (whole > 1) - (whole < 1)
+            with mock.patch.object(sparse, "MOST_TIMES", 0):
+                found = growing._nearly(base, lead, parts, bits)
+            self.assertIn(found, (wanted, None), (base, lead, parts))
+            seen.append(found)
+            self.assertEqual(growing._nearly(base, lead, parts, bits), wanted)
+        self.assertTrue(seen.count(None) < 60 < min(seen.count(1), seen.count(-1)) and 0 in seen)
+
+    def test_products_whose_heads_are_not_1(self):
+        parts = [(((0, 3), (300, 1)), 1), (((0, 2), (300, 1)), -1)]
+        with mock.patch.object(sparse, "MOST_TIMES", 0):
+            self.assertIsNone(growing._nearly(2, 0, parts, 24))
+        self.assertEqual(growing._nearly(2, 0, parts, 24), 1)
+
+    def test_what_the_first_order_does_not_tell(self):
+        # (1 + r) * (1 + r) against 1 + 2 * r: only the square of r tells.
+        parts = [(((0, 1), (300, 1)), 2), (((0, 1), (300, 2)), -1)]
+        with mock.patch.object(sparse, "MOST_TIMES", 0):
+            self.assertIsNone(growing._nearly(2, 0, parts, 24))
+        self.assertEqual(growing._nearly(2, 0, parts, 24), 1)
+        self.assertEqual(growing._nearly(2, 0, [(tail, -power) for tail, power in parts], 24), -1)
 
 
 class SparseTest(unittest.TestCase):

@@ -480,6 +480,21 @@ class KeeperTest(unittest.TestCase):
             keeper.put((1,), 2)
         self.assertRaises(AttributeError, setattr, keeper, "busy", True)
 
+    def test_busy_while_deeds_are_done(self):
+        seen = []
+
+        class Watching(Schema):
+            def __contains__(self, row):
+                seen.append(keeper.busy)
+                return super().__contains__(row)
+
+        keeper = Keeper(Watching("x"), LINE)
+        keeper.apply(("put", (2,), 1), ("put", (3,), 1))
+        self.assertEqual([seen, keeper.busy], [[True, True], False])
+        for deeds in ([("put", (2,), 1), ("put", (0,), 1)], [("strike", (2,), 9)], [("put", (2,), 9), ("strike", (4,), 1)]):
+            self.assertIsNotNone(raised_by(keeper.apply, *deeds))
+            self.assertEqual([set(seen), keeper.busy], [{True}, False])
+
     def test_a_broken_claim_is_told_by_its_text(self):
         keeper = Keeper(COLUMN, LINE)
         keeper.put((2,), count=4)

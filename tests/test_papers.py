@@ -344,9 +344,10 @@ class CopiesTest(unittest.TestCase):
     def test_what_was_returned_may_change(self):
         deal = Dealt([MEAN], [LESS], [1], [[1], ([2],)], [((1, 1), [[3]])])
         table = Failing([MEAN], [LESS], 2, [(0, (1,)), [4, ([5],)]])
+        question = Verdict([MEAN], [LESS])
         for call in (deal.claims, deal.premises, deal.weights, deal.uses, deal.lots, deal.small_sums, deal.great_sums,
                      table.claims, table.premises, table.groups, table.small_sums, table.great_sums,
-                     Verdict([MEAN], [LESS]).claims, Verdict([MEAN], [LESS]).small_sums):
+                     question.claims, question.premises, question.small_sums, question.great_sums):
             before = copy.deepcopy(call())
             call().append(None)
             call().clear()
