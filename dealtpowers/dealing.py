@@ -21,8 +21,8 @@ class Dealing:
     """The amounts of some rows with the greatest sum for which all that the rows need can be dealt out.
 
     A row has a number for each place: what it takes of each great sum, behind that what it needs of each small sum,
-    and then anything else. The costs tell how much of each place there may be. With some lots the greatest sum is
-    sought, which also tells the price of each sum. While a lot is cheaper than what it covers, it is added.
+    and then anything else. The costs tell how much of each place there may be. With the lots that are known the
+    greatest sum is sought, which also tells the price of each sum. A lot that is cheaper than what it covers is added.
     """
 
     def __init__(self, great, small, rows, costs):
@@ -31,13 +31,23 @@ class Dealing:
         self._rows = len(rows)
         self._places = len(costs)
         self._lots = []
+        self._offers = []
         self._tableau = Tableau(rows, [1] * len(rows), [(cost, uneven(at)) for at, cost in enumerate(costs)])
         self._tableau.finish()
-        fresh = self._cheaper_lots()
-        while fresh:
-            self._put(fresh)
-            self._tableau.finish()
-            fresh = self._cheaper_lots()
+
+    def improve(self):
+        """Adds cheaper lots; tells whether there were any. If not, there is no greater sum."""
+        _, prices = self._tableau.point()
+        self._offers = [self._offer(at, prices) for at in range(len(self._small)) if self._worth(at, prices) > 0]
+        fresh = []
+        for at, lot, _ in self._offers:
+            if lot is not None and summed(lot[1], prices) < lot[0] * self._worth(at, prices):
+                fresh.append((at, lot[0], lot[1]))
+        if not fresh:
+            return False
+        self._put(fresh)
+        self._tableau.finish()
+        return True
 
     def amounts(self):
         """The pair of a scale and a list of numbers: the amount of each row is number / scale."""
@@ -53,37 +63,31 @@ class Dealing:
         return found
 
     def groups(self):
-        """The groups that show that there is no greater sum: pairs of a scale and a group, each group / scale."""
-        return [self._group(at, worth, offer) for at, worth, offer in self._offers()]
+        """The groups that were found with the last prices: a list of pairs of a scale and a group, each group / scale.
 
-    def _group(self, at, worth, offer):
-        if offer.finish():
-            return offer.amounts()
-        # Nothing covers the small sum. So the group costs nothing, and may be as great as it has to be.
-        growth = offer.growth()
-        return (summed(growth, self._small[at]), [worth * number for number in growth])
+        They show that there is no greater sum, if none was added then.
+        """
+        return [group for _, _, group in self._offers]
 
-    def _offers(self):
-        """For each small sum with a price: its index, its price, and the tableau of the cheapest lot for it."""
-        _, prices = self._tableau.point()
-        many = len(self._great)
+    def _worth(self, at, prices):
+        return prices[len(self._great) + at]
+
+    def _offer(self, at, prices):
+        """The cheapest lot for a small sum, the pair of a scale and shares, and the group that shows it.
+
+        The lot is None if nothing covers the small sum.
+        """
+        goal = self._small[at]
         # Without great sums one that covers nothing stands in their place.
-        great = self._great or [[0] * len(goal) for goal in self._small[:1]]
-        rows = [list(row) for row in zip(*great)]
-        costs = [(price, uneven(at)) for at, price in enumerate(prices[:many] or [0])]
-        worths = prices[many:]
-        return [(at, worths[at], Tableau(rows, goal, costs)) for at, goal in enumerate(self._small) if worths[at] > 0]
-
-    def _cheaper_lots(self):
-        """The triples of the index of a small sum, and of the scale and the shares of a lot that is to be added."""
-        _, prices = self._tableau.point()
-        found = []
-        for at, worth, offer in self._offers():
-            if offer.finish():
-                scale, shares = offer.point()
-                if summed(shares, prices) < scale * worth:
-                    found.append((at, scale, shares))
-        return found
+        great = self._great or [[0] * len(goal)]
+        costs = [(price, uneven(place)) for place, price in enumerate(prices[:len(self._great)] or [0])]
+        tableau = Tableau([list(row) for row in zip(*great)], goal, costs)
+        if tableau.finish():
+            return (at, tableau.point(), tableau.amounts())
+        # The group costs nothing, and may be as great as it has to be.
+        growth = tableau.growth()
+        worth = self._worth(at, prices)
+        return (at, None, (summed(growth, goal), [worth * number for number in growth]))
 
     def _put(self, lots):
         rows = []

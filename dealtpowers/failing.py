@@ -9,22 +9,45 @@ from math import lcm
 
 from dealtpowers.numbers import summed
 from dealtpowers.papers import Failing
+from dealtpowers.systems import solve
 
 MOST_DOUBLINGS = 64
+# The greatest number of groups that are rounded to see whether they fail.
+FINE = 1000
+
+
+def one_group(sides, size):
+    """A list with one group with which all sides fail, as a pair of a scale and the group; or an empty list.
+
+    The size is that of a group.
+    """
+    rows = [[sum([number * height[at] for height, number in side]) for at in range(size)] for side in sides]
+    found = solve(rows, [1] * len(rows))
+    return [(found.scale, found.numbers())] if found else []
+
+
+def do_fail(found, sides):
+    """Whether all sides fail with these groups, pairs of a scale and a group, also if they are rounded."""
+    groups = _in_one_scale(found)
+    return any([any(group) for group in groups]) and _fail(_rounded(groups, FINE), sides)
 
 
 def small_groups(found, sides):
     """Groups of small numbers with which all sides fail, made of pairs of a scale and a group with which they do."""
-    whole = 1
-    for scale, _ in found:
-        whole = lcm(whole, scale)
-    groups = [[number * (whole // scale) for number in group] for scale, group in found]
+    groups = _in_one_scale(found)
     size = 1
     rounded = _rounded(groups, size)
     while not _fail(rounded, sides):
         size = size + 1 + size // 8
         rounded = _rounded(groups, size)
     return _without_spare(rounded, sides)
+
+
+def _in_one_scale(found):
+    whole = 1
+    for scale, _ in found:
+        whole = lcm(whole, scale)
+    return [[number * (whole // scale) for number in group] for scale, group in found]
 
 
 def _rounded(groups, size):

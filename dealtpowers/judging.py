@@ -6,7 +6,7 @@ from dealtpowers.covers import covers_of
 from dealtpowers.dealing import Dealing, heights_of
 from dealtpowers.errors import Boundless, Tight
 from dealtpowers.exponents import slope_of
-from dealtpowers.failing import failing_paper, small_groups
+from dealtpowers.failing import do_fail, failing_paper, one_group, small_groups
 from dealtpowers.numbers import lowest, summed
 from dealtpowers.papers import Dealt, Verdict
 
@@ -24,7 +24,9 @@ def judge(*claims, premises=()):
 
 def is_true(claim):
     """Whether a claim is true."""
-    return _is_dealt(_dealing(Verdict([claim])))
+    question = Verdict([claim])
+    dealing, _ = _search(question, _all_powers(question))
+    return dealing is not None
 
 
 def greatest_power(claim):
@@ -37,6 +39,8 @@ def greatest_power(claim):
     small = heights_of(claim.schema, [exponent for exponent, _ in low])
     row = [0] * len(high) + [times for _, times in low]
     dealing = Dealing(great, small, [row], [times for _, times in high] + [0] * len(low))
+    while dealing.improve():
+        pass
     bottom, numbers = dealing.amounts()
     common = gcd(numbers[0], bottom)
     return (numbers[0] // common, bottom // common)
@@ -44,12 +48,25 @@ def greatest_power(claim):
 
 def _judged(question):
     """The paper of a question whose premises are not tight."""
-    dealing = _dealing(question)
-    if _is_dealt(dealing):
+    sides = _all_powers(question)
+    dealing, found = _search(question, sides)
+    if dealing is not None:
         return _deal(question, dealing)
     schema = question.claims()[0].schema
-    groups = small_groups(dealing.groups(), [_powers(schema, side) for side in _sides(question)])
-    return failing_paper(question.claims(), question.premises(), [_power_group(schema, group) for group in groups])
+    groups = [_power_group(schema, group) for group in small_groups(found, sides)]
+    return failing_paper(question.claims(), question.premises(), groups)
+
+
+def _search(question, sides):
+    """A pair: the dealing that was found and no groups, or None and groups with which all sides fail."""
+    found = one_group(sides, 1 + len(question.claims()[0].schema.rays()))
+    if found:
+        return (None, found)
+    dealing = _dealing(question)
+    while not _is_dealt(dealing):
+        if not dealing.improve() or do_fail(dealing.groups(), sides):
+            return (None, dealing.groups())
+    return (dealing, [])
 
 
 def _sides(question):
@@ -112,6 +129,10 @@ def _lots(flat, many, great, facts):
         shares = flat[first:first + great]
         found.append((tuple(shares), tuple(flat[first + great:first + great + facts])))
     return found
+
+
+def _all_powers(question):
+    return [_powers(question.claims()[0].schema, side) for side in _sides(question)]
 
 
 def _powers(schema, side):

@@ -108,6 +108,20 @@ def random_claim(pick, schema, many, most=3, power=3):
     return Claim(schema, *sides)
 
 
+def balanced_claim(pick, schema, many):
+    """A claim that is met equally by each table of equal rows; so only others can fail it."""
+    low, high = [], []
+    while len(low) < 2 * many:
+        one, other = (random_exponent(pick, schema.width, 4) for _ in range(2))
+        move = [pick.randint(-2, 2) for _ in range(schema.width)]
+        pair = [tuple(a + b for a, b in zip(one, move)), tuple(a - b for a, b in zip(other, move))]
+        if all(0 <= part <= 6 for exponent in pair for part in exponent):
+            power = pick.randint(1, 3)
+            low += [(one, power), (other, power)]
+            high += [(exponent, power) for exponent in pair]
+    return Claim(schema, Product(schema.width, low), Product(schema.width, high))
+
+
 def random_schema(pick, most_facts=4, most=3):
     """A schema of one to three columns."""
     width = pick.randint(1, 3)

@@ -12,8 +12,8 @@ from dealtpowers.papers import Dealt, Failing
 from dealtpowers.products import Product
 from dealtpowers.schemas import Schema
 from dealtpowers.tables import Table
-from questions import (deals_out, fails_at, is_right_deal, kept_premises, plain_sides, random_claim, random_product,
-                       random_schema, sides_at)
+from questions import (balanced_claim, deals_out, fails_at, is_right_deal, kept_premises, plain_sides, random_claim,
+                       random_product, random_schema, sides_at)
 from samples import grouped, keeps, raised_by, random_facts, random_row, times
 
 COLUMN = Schema("x")
@@ -82,6 +82,20 @@ class JudgingTest(PaperTest):
         self.assertGreater(min(seen.values()), 30)
         self.assertEqual(set(seen), {("dealt", False), ("failing", False), ("dealt", True), ("failing", True),
                                      ("tight", True)})
+
+    def test_claims_that_fail_in_tables_of_several_groups_alone(self):
+        pick = random.Random(13)
+        seen = {}
+        for _ in range(150):
+            schema = random_schema(pick, 2)
+            claims = [balanced_claim(pick, schema, pick.randint(1, 3)) for _ in range(pick.choice([1, 1, 2, 3]))]
+            premises = kept_premises(pick, schema, pick.choice([0, 0, 1, 2]))
+            told = self.check(claims, premises)
+            if told == "failing":
+                told = len(judge(*claims, premises=premises).groups())
+                self.assertGreater(told, 1)
+            seen[told] = seen.get(told, 0) + 1
+        self.assertGreater(min(seen["dealt"], seen[2], seen[3]), 10, seen)
 
     def test_no_table_fails_where_there_is_a_deal(self):
         pick = random.Random(2)
