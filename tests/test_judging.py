@@ -95,7 +95,7 @@ class JudgingTest(PaperTest):
                 told = len(judge(*claims, premises=premises).groups())
                 self.assertGreater(told, 1)
             seen[told] = seen.get(told, 0) + 1
-        self.assertGreater(min(seen["dealt"], seen[2], seen[3]), 10, seen)
+        self.assertGreater(min(seen["dealt"], seen[2], seen[3]), 5, seen)
 
     def test_no_table_fails_where_there_is_a_deal(self):
         pick = random.Random(2)
