@@ -56,8 +56,9 @@ def combined(claim, claims):
         return None
     rows = [[gain.get(exponent, 0) for gain in gains] for exponent in exponents]
     bounds = [goal.get(exponent, 0) for exponent in exponents]
-    # Both a sum and its negative reach their bounds: so the sum meets its bound exactly.
-    found = solve(rows + [[-number for number in row] for row in rows], bounds + [-bound for bound in bounds])
+    # Each sum reaches its bound, and all together are no more than the bounds: so each meets its own exactly.
+    whole = [-sum([row[at] for row in rows]) for at in range(len(gains))]
+    found = solve(rows + [whole], bounds + [-sum(bounds)])
     if not found:
         return None
     return (found.scale, tuple(found.numbers()))
