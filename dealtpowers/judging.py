@@ -14,19 +14,19 @@ from dealtpowers.papers import Dealt, Verdict
 def judge(*claims, premises=()):
     """A right deal or a right failing table of a question."""
     question = Verdict(claims, premises)
-    turned = [premise.turned() for premise in question.premises()]
-    if turned:
-        paper = _judged(Verdict(turned))
-        if paper:
-            raise Tight(paper)
+    if question.premises():
+        turned = Verdict([premise.turned() for premise in question.premises()])
+        deal, _ = _search(turned, _all_powers(turned))
+        if deal is not None:
+            raise Tight(_deal(turned, deal))
     return _judged(question)
 
 
 def is_true(claim):
     """Whether a claim is true."""
     question = Verdict([claim])
-    dealing, _ = _search(question, _all_powers(question))
-    return dealing is not None
+    deal, _ = _search(question, _all_powers(question))
+    return deal is not None
 
 
 def greatest_power(claim):
@@ -49,24 +49,55 @@ def greatest_power(claim):
 def _judged(question):
     """The paper of a question whose premises are not tight."""
     sides = _all_powers(question)
-    dealing, found = _search(question, sides)
-    if dealing is not None:
-        return _deal(question, dealing)
+    deal, found = _search(question, sides)
+    if deal is not None:
+        return _deal(question, deal)
     schema = question.claims()[0].schema
     groups = [_power_group(schema, group) for group in small_groups(found, sides)]
     return failing_paper(question.claims(), question.premises(), groups)
 
 
 def _search(question, sides):
-    """A pair: the dealing that was found and no groups, or None and groups with which all sides fail."""
-    found = one_group(sides, 1 + len(question.claims()[0].schema.rays()))
-    if found:
-        return (None, found)
-    dealing = _dealing(question)
-    while not _is_dealt(dealing):
+    """A pair: a deal, the pair of weights with uses and of shares, and no groups; or None, and groups that fail all."""
+    groups = one_group(sides, 1 + len(question.claims()[0].schema.rays()))
+    if groups:
+        return (None, groups)
+    for chosen, part in _parts(question):
+        dealing = _dealing(part)
+        groups = _finished(dealing, [sides[at] for at in chosen])
+        if not groups:
+            _, amounts = dealing.amounts()
+            given = {at: amount for at, amount in zip(chosen, amounts)}
+            return (([given.get(at, 0) for at in range(len(sides))], _spread(question, part, dealing.shares())), [])
+        if do_fail(groups, sides):
+            return (None, groups)
+    return (None, groups)
+
+
+def _parts(question):
+    """Pairs of indexes of sides and the question about them: each claim alone, which is soon done, and at last all."""
+    claims = question.claims()
+    whole = list(range(len(claims) + len(question.premises())))
+    alone = [([at], Verdict([claim])) for at, claim in enumerate(claims)]
+    return alone + [(whole, question)] if len(whole) > 1 else alone
+
+
+def _spread(question, part, shares):
+    """The shares of a part of a question as those of the question."""
+    great = part.great_sums()
+    found = {}
+    for small, numbers in zip(part.small_sums(), shares):
+        for exponent, number in zip(great, numbers):
+            found[(small, exponent)] = number
+    return [[found.get((small, exponent), 0) for exponent in question.great_sums()] for small in question.small_sums()]
+
+
+def _finished(dealing, sides):
+    """Groups with which these sides fail, or an empty list if all is dealt for them."""
+    while not any(dealing.amounts()[1]):
         if not dealing.improve() or do_fail(dealing.groups(), sides):
-            return (None, dealing.groups())
-    return (dealing, [])
+            return dealing.groups()
+    return []
 
 
 def _sides(question):
@@ -88,16 +119,11 @@ def _dealing(question):
     return Dealing(heights_of(schema, great), heights_of(schema, small), rows, costs)
 
 
-def _is_dealt(dealing):
-    _, numbers = dealing.amounts()
-    return any(numbers)
-
-
-def _deal(question, dealing):
-    """The deal that was found, in whole numbers."""
+def _deal(question, deal):
+    """The deal with a pair of weights with uses and of shares, in whole numbers."""
+    numbers, shares = deal
     small = question.small_sums()
-    _, numbers = dealing.amounts()
-    found = [(share, _covers(question, numbers, exponent, share)) for exponent, share in zip(small, dealing.shares())]
+    found = [(share, _covers(question, numbers, exponent, share)) for exponent, share in zip(small, shares)]
     whole = 1
     for _, (scale, _) in found:
         whole = lcm(whole, scale)

@@ -17,16 +17,16 @@ class Tableau:
     """
 
     def __init__(self, rows, bounds, costs):
-        self._places = len(costs)
-        self._many = 0
-        self._rows = 0
-        self._lines = [list(cost) + [1] for cost in costs]
-        self._goal = [0] * len(costs[0]) + [1]
-        self._free = []
-        self._held = list(range(len(costs)))
+        places = len(costs)
+        self._places = places
+        self._many = len(rows)
+        self._rows = len(rows)
+        self._lines = [[row[at] for row in rows] + list(cost) + [1] for at, cost in enumerate(costs)]
+        self._goal = [-bound for bound in bounds] + [0] * len(costs[0]) + [1]
+        self._free = list(range(places, places + len(rows)))
+        self._held = list(range(places))
         self._endless = None
-        self._mark = self._goal
-        self.widen(rows, bounds)
+        self._mark = self._goal[len(rows):]
 
     def widen(self, rows, bounds):
         """Puts more rows behind those of the system; what was found for the others stays."""
