@@ -128,12 +128,12 @@ def random_schema(pick, most_facts=4, most=3):
     return Schema("xyz"[:width], random_facts(pick, width, pick.randint(0, most_facts), most))
 
 
-def kept_premises(pick, schema, many, most=3):
+def kept_premises(pick, schema, many, most=3, sums=3):
     """Premises that a table keeps strictly, so that they are not tight."""
     groups = random_groups_of_powers(pick, schema, 3)
     found = []
     for _ in range(40):
-        claim = random_claim(pick, schema, 3, most)
+        claim = random_claim(pick, schema, sums, most)
         low, high = sides_at(claim, 16, groups)
         if low != high and len(found) < many:
             found.append(claim if low < high else claim.turned())
@@ -146,7 +146,8 @@ def random_groups_of_powers(pick, schema, many):
     found = []
     for _ in range(many):
         weights = [pick.randint(0, 2) for _ in rays]
-        found.append((pick.randint(0, 4), tuple(times(weights, [ray[at] for ray in rays]) for at in range(schema.width))))
+        direction = tuple(times(weights, [ray[at] for ray in rays]) for at in range(schema.width))
+        found.append((pick.randint(0, 4), direction))
     return found
 
 

@@ -273,6 +273,15 @@ class BoundsTest(PaperTest):
             told.add(self.check(claims, [random_claim(pick, schema, 4, 6) for _ in range(4)]))
         self.assertEqual(told, {"dealt", "failing", "tight"})
 
+    def test_all_at_once(self):
+        pick = random.Random(33)
+        told = set()
+        for _ in range(8):
+            schema = Schema("xyz", random_facts(pick, 3, 4, pick.choice([2, 6])))
+            claims = [Claim(schema, *(random_product(pick, 3, 12, 6, 9) for _ in range(2))) for _ in range(4)]
+            told.add(self.check(claims, kept_premises(pick, schema, 4, 6, 12)))
+        self.assertEqual(told, {"dealt", "failing"})
+
     def test_powers_of_60_digits(self):
         big = 10 ** 60 - 1
         for low, high, wanted in (({1: big}, {2: big}, True), ({2: big}, {1: big}, False),
