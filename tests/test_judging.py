@@ -214,6 +214,15 @@ class JudgingTest(PaperTest):
                 self.assertEqual(self.check([Claim(schema, some, none)], [Claim(schema, none, some)]), "failing")
                 self.assertEqual(self.check([Claim(schema, some, none)], [Claim(schema, some, none)]), "tight")
 
+    def test_small_sums_that_nothing_covers(self):
+        # The second claim needs two groups to fail, and no great sum has the column of the first one.
+        for lines in (("S[x] <= S[]", "S[] S[y2] <= S[y]^2"), ("S[x]^9 <= S[]", "S[]^2 S[y3] <= S[y]^3"),
+                      ("S[x2] <= S[]^5", "S[] S[x y2] <= S[y]^2")):
+            self.assertEqual(self.check(texts(Schema("xy"), *lines), []), "failing")
+            self.assertEqual(self.check(texts(Schema("xyz", [((0, 0, 1), (1, 0, 0))]), *lines), []), "failing")
+        pair = texts(Schema("xyz"), "S[z] S[y] <= S[] S[y]", "S[] S[y2] <= S[y]^2")
+        self.assertEqual(self.check(pair, texts(Schema("xyz"), "S[x] <= S[y]^2")), "failing")
+
     def test_facts_without_rays(self):
         # All rows are rows of ones, so all sums are equal.
         for facts in ([((1,), (0,))], [((2,), (1,)), ((0,), (0,))]):
