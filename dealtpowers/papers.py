@@ -5,7 +5,7 @@ from dealtpowers.errors import InvalidClaim, WrongSchema
 from dealtpowers.exponents import is_direction_of, slope_of
 from dealtpowers.growing import holds_in_powers
 from dealtpowers.numbers import are_numbers, is_number, summed
-from dealtpowers.tables import Table
+from dealtpowers.tables import Table, powered_groups
 from dealtpowers.values import copied, is_list
 
 MOST_CLAIMS = 4
@@ -182,7 +182,7 @@ class Failing(Verdict):
         """The table of the power groups; None if base and groups are none of a table."""
         if not self._has_table():
             return None
-        return Table.powers(self._claims[0].schema.width, self.base, self._groups)
+        return Table(self._claims[0].schema.width, powered_groups(self.base, self._groups))
 
     def holds(self):
         """Whether the failing table is right."""

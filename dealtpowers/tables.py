@@ -34,7 +34,7 @@ class Table:
         # Long powers take long, and it is known ahead of them how many different rows there are.
         if base > 1 and len({direction for _, direction in groups}) > Table.MOST:
             raise TooMany(Table.MOST)
-        return Table(width, [(power(base, times), _power_row(base, direction)) for times, direction in groups])
+        return Table(width, powered_groups(base, groups))
 
     @property
     def size(self):
@@ -115,8 +115,9 @@ def _check_power(number):
         raise InvalidNumber(number)
 
 
-def _power_row(base, direction):
-    return tuple([power(base, times) for times in direction])
+def powered_groups(base, groups):
+    """The groups for which power groups stand."""
+    return [(power(base, times), tuple([power(base, part) for part in direction])) for times, direction in groups]
 
 
 def _row_product(one, other):

@@ -316,7 +316,7 @@ class LanguageTest(unittest.TestCase):
         classes = {node.name for _, node in self.nodes(ast.ClassDef)}
         for where, node in self.nodes(ast.Attribute):
             if isinstance(node.value, ast.Name) and node.value.id in classes:
-                self.assertIn(node.attr, values | {"of", "powers"}, where)
+                self.assertIn(node.attr, values, where)
         for where, node in self.nodes(ast.Attribute):
             if node.attr.startswith("_") and not node.attr.startswith("__"):
                 self.assertIn(node.attr, methods | stored, where)
